@@ -1,0 +1,1 @@
+"""Words heard: words parted into even lists, and what was heard of them scored."""
