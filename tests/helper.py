@@ -1,6 +1,8 @@
-"""Calls written as functions, answers taken apart, and partings walked plainly."""
+"""Calls written as functions, answers taken apart, and partings and chances walked plainly."""
 
+from fractions import Fraction
 from itertools import combinations, product
+from math import comb
 from random import Random
 
 from wordsheard.laboratory import answers
@@ -52,6 +54,46 @@ def confusions():
     return [10]
 
 
+def unlike(x, n, y, m):
+    return [11, x, n, y, m]
+
+
+def shares(x, n, y, m):
+    return [12, x, n, y, m]
+
+
+def alike(x, n, m, e, f):
+    return [13, x, n, m, e, f]
+
+
+def least(a, b, c, d, e, f):
+    return [14, a, b, c, d, e, f]
+
+
+def guess(n, x, k):
+    return [15, n, x, k]
+
+
+def beyond(n, k, e, f):
+    return [16, n, k, e, f]
+
+
+def told():
+    return [17]
+
+
+def exchange(k, i, j, parting):
+    return [18, k, i, j, len(parting)] + list(parting)
+
+
+def of_word(w):
+    return [19, w]
+
+
+def sizes():
+    return [20]
+
+
 def joined(calls):
     """The calls one behind another, as they are handed in."""
     line = []
@@ -87,7 +129,14 @@ def words_told(words):
 
 
 # Asked behind a refused call, these tell whether anything has changed.
-WATCHERS = [sounds(), score(), confusions(), part(2), part(3), part(4), bound(2)]
+WATCHERS = [sounds(), score(), confusions(), part(2), part(3), part(4), bound(2), told(), sizes()]
+WATCHERS += [of_word(w) for w in range(10)]
+
+
+def watched(before, call):
+    """What the call answers; what the watchers tell behind it; what they tell where it wasn't called."""
+    found = answered(before + [call] + WATCHERS)
+    return found[len(before)], found[len(before) + 1:], answered(before + WATCHERS)[len(before):]
 
 
 def all_partings(how_many, k):
@@ -114,6 +163,22 @@ def plain_bound(words, k):
         remainder = sum(row.count(sound) for row in words) % k
         total += remainder * (k - remainder)
     return total
+
+
+def plain_ways(n, m, right):
+    """By how many the first list has: in how many ways the right ones are shared out."""
+    return [comb(n, i) * comb(m, right - i) if i <= right else 0 for i in range(n + 1)]
+
+
+def plain_chance(x, n, y, m):
+    """How often by chance as unlike or more so, straight from the document's sentence."""
+    ways = plain_ways(n, m, x + y)
+    return Fraction(sum(these for these in ways if these <= ways[x]), comb(n + m, x + y))
+
+
+def plain_guess(n, x, k):
+    """How often a guesser has x or more of n right."""
+    return Fraction(sum(comb(n, i) * (k - 1) ** (n - i) for i in range(x, n + 1)), k ** n)
 
 
 def some_words(seed, how_many, last_sound, longest):

@@ -75,6 +75,10 @@ class Form(unittest.TestCase):
                 for node in ast.walk(tree):
                     self.assertIsInstance(node, NODES)
                     self.assertNotIsInstance(node, (ast.Div, ast.MatMult))
+                    if isinstance(node, ast.BinOp) and isinstance(node.op, ast.Pow):
+                        self.assertIsInstance(node.right, ast.Constant)
+                    if isinstance(node, ast.Compare) and isinstance(node.ops[0], (ast.Is, ast.IsNot)):
+                        self.assertIn(ast.unparse(node.comparators[0]), ("None", "True", "False"))
                     if isinstance(node, ast.Assign):
                         self.assertEqual(len(node.targets), 1)
                         self.assertNotIsInstance(node.targets[0], (ast.Tuple, ast.List))

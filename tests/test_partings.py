@@ -2,8 +2,8 @@
 
 import unittest
 
-from tests.helper import FAR, WATCHERS, all_partings, answered, best, bound, drop, last_answer, part
-from tests.helper import plain_bound, plainly_uneven, some_words, uneven, word, words_told
+from tests.helper import FAR, all_partings, answered, best, bound, drop, last_answer, part
+from tests.helper import plain_bound, plainly_uneven, some_words, uneven, watched, word, words_told
 
 FOUR = words_told([[1, 2], [1], [2], [3]])
 
@@ -177,10 +177,10 @@ class Refused(unittest.TestCase):
         for refused in [part(1), part(3), bound(5), bound(3), uneven(2, [0, 0, 0, 1]), uneven(2, [4] * 4),
                         best(3, [0, 0, 1, 1]), best(2, [0] * 20), best(2, [])]:
             with self.subTest(refused=refused):
-                found = answered(FOUR + [refused] + WATCHERS)
-                self.assertEqual(len(found[4]), 1)
-                self.assertLess(found[4][0], 0)
-                self.assertEqual(found[5:], answered(FOUR + WATCHERS)[4:])
+                told, behind, without = watched(FOUR, refused)
+                self.assertEqual(len(told), 1)
+                self.assertLess(told[0], 0)
+                self.assertEqual(behind, without)
 
 
 if __name__ == "__main__":

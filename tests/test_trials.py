@@ -2,7 +2,7 @@
 
 import unittest
 
-from tests.helper import FAR, WATCHERS, answer, answered, confusions, forget, last_answer, score, word, words_told
+from tests.helper import FAR, answer, answered, confusions, forget, last_answer, score, watched, word, words_told
 
 TWO = words_told([[3, 1, 3], [7]])
 TRIED = TWO + [answer(0, [3, 1, 3]), answer(0, [3, 3, -1]), answer(1, [-1])]
@@ -95,9 +95,9 @@ class Refused(unittest.TestCase):
                                       (TRIED, answer(2, [1]), -3), (TRIED, answer(0, [3, 1]), -4),
                                       (sixty, answer(1, [9]), -8), (TWO, forget(), -2)]:
             with self.subTest(refused=refused):
-                found = answered(before + [refused] + WATCHERS)
-                self.assertEqual(found[len(before)], [told])
-                self.assertEqual(found[len(before) + 1:], answered(before + WATCHERS)[len(before):])
+                found, behind, without = watched(before, refused)
+                self.assertEqual(found, [told])
+                self.assertEqual(behind, without)
 
 
 if __name__ == "__main__":

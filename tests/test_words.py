@@ -2,7 +2,7 @@
 
 import unittest
 
-from tests.helper import FAR, WATCHERS, answer, answered, drop, forget, last_answer, sounds, word, words_told
+from tests.helper import FAR, answer, answered, drop, forget, last_answer, sounds, watched, word, words_told
 
 
 class Word(unittest.TestCase):
@@ -79,9 +79,9 @@ class Sounds(unittest.TestCase):
 
 class RefusedChangesNothing(unittest.TestCase):
     def check(self, before, refused, number):
-        found = answered(before + [refused] + WATCHERS)
-        self.assertEqual(found[len(before)], [number])
-        self.assertEqual(found[len(before) + 1:], answered(before + WATCHERS)[len(before):])
+        told, behind, without = watched(before, refused)
+        self.assertEqual(told, [number])
+        self.assertEqual(behind, without)
 
     def test_word_and_drop(self):
         full = words_told([[number, 3] for number in range(10)])

@@ -1,1 +1,1 @@
-"""Words heard: words parted into even lists, and what was heard of them scored."""
+"""Words heard: words parted into even lists, what was heard of them scored, and scores held against chance."""

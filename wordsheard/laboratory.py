@@ -1,16 +1,20 @@
 """A line of calls, read one behind another and answered."""
 
+from wordsheard.chancecalls import alike, beyond, guess, least, shares, unlike
 from wordsheard.store import Laboratory
-from wordsheard.trialcalls import add_trial, confusions, forget_trial, score
-from wordsheard.wordcalls import best, bound, count_sounds, drop_word, part, tell_word, uneven
+from wordsheard.trialcalls import add_trial, confusions, forget_trial, score, score_of_word
+from wordsheard.wordcalls import best, bound, count_sounds, drop_word, exchange, part, sizes, tell_word
+from wordsheard.wordcalls import told_words, uneven
 
 # By the call's number: how many whole numbers stand behind it.
-WHOLE_NUMBERS = (0, 0, 1, 1, 1, 1, 0, 1, 0, 0, 0)
+WHOLE_NUMBERS = (0, 0, 1, 1, 1, 1, 0, 1, 0, 0, 0, 4, 4, 5, 6, 3, 4, 0, 3, 1, 0)
 
 # The calls that have a row behind their whole numbers.
-CALLS_WITH_ROW = (0, 3, 5, 7)
+CALLS_WITH_ROW = (0, 3, 5, 7, 18)
 
 LAST_WORD_CALL = 6
+LAST_TRIAL_CALL = 10
+LAST_CHANCE_CALL = 16
 
 
 def word_call(lab, call, numbers, row):
@@ -41,11 +45,41 @@ def trial_call(lab, call, numbers, row):
     return confusions(lab)
 
 
+def chance_call(call, numbers):
+    """What one of the calls 11 to 16 answers."""
+    if call == 11:
+        return unlike(numbers[0], numbers[1], numbers[2], numbers[3])
+    if call == 12:
+        return shares(numbers[0], numbers[1], numbers[2], numbers[3])
+    if call == 13:
+        return alike(numbers[0], numbers[1], numbers[2], numbers[3], numbers[4])
+    if call == 14:
+        return least(numbers[0], numbers[1], numbers[2], numbers[3], numbers[4], numbers[5])
+    if call == 15:
+        return guess(numbers[0], numbers[1], numbers[2])
+    return beyond(numbers[0], numbers[1], numbers[2], numbers[3])
+
+
+def further_call(lab, call, numbers, row):
+    """What one of the calls 17 to 20 answers."""
+    if call == 17:
+        return told_words(lab)
+    if call == 18:
+        return exchange(lab, numbers[0], numbers[1], numbers[2], row)
+    if call == 19:
+        return score_of_word(lab, numbers[0])
+    return sizes(lab)
+
+
 def answer_of(lab, call, numbers, row):
     """What the call answers: 0 and what is told, or a refusal alone."""
     if call <= LAST_WORD_CALL:
         return word_call(lab, call, numbers, row)
-    return trial_call(lab, call, numbers, row)
+    if call <= LAST_TRIAL_CALL:
+        return trial_call(lab, call, numbers, row)
+    if call <= LAST_CHANCE_CALL:
+        return chance_call(call, numbers)
+    return further_call(lab, call, numbers, row)
 
 
 def answers(calls):

@@ -7,6 +7,9 @@ MOST_WORDS = 10
 MOST_TRIALS = 60
 FEWEST_LISTS = 2
 MOST_LISTS = 4
+MOST_TIMES = 60
+MOST_CHOICES = 20
+MOST_OF_LEVEL = 1000
 
 OUT_OF_RANGE = -1
 NONE_THERE = -2
@@ -31,3 +34,8 @@ def is_list_count(k):
 def is_word_number(w):
     """Whether w is in the range of words' numbers, be there such a word or not."""
     return 0 <= w < MOST_WORDS
+
+
+def is_level(e, f):
+    """Whether e and f are in range for the fraction that others are held against; it may be above 1."""
+    return 0 <= e <= MOST_OF_LEVEL and 1 <= f <= MOST_OF_LEVEL

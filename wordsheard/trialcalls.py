@@ -1,4 +1,4 @@
-"""The calls on trials: 7 to 10.
+"""The calls on trials: 7 to 10 and 19.
 
 Each function answers the call's numbers: 0 and what is told, or a refusal alone. What would refuse is
 looked for from the refusal nearest to 0 on, and ahead of every change.
@@ -45,17 +45,22 @@ def forget_trial(lab):
     return [0, len(lab.trials)]
 
 
-def score(lab):
-    """Call 9: how many trials, words right, sounds right and sounds said."""
+def scored(lab, trials):
+    """Of these trials: how many there are, words right, sounds right and sounds said."""
     whole_words = 0
     sounds_right = 0
     sounds_said = 0
-    for w, heard in lab.trials:
+    for w, heard in trials:
         right = right_sounds(lab.words[w], heard)
         whole_words += 1 if right == len(heard) else 0
         sounds_right += right
         sounds_said += len(heard)
-    return [0, len(lab.trials), whole_words, sounds_right, sounds_said]
+    return [len(trials), whole_words, sounds_right, sounds_said]
+
+
+def score(lab):
+    """Call 9: how many trials, words right, sounds right and sounds said."""
+    return [0] + scored(lab, lab.trials)
 
 
 def place_told(pair):
@@ -74,3 +79,13 @@ def confusions(lab):
     for pair in sorted(tally.keys(), key=place_told):
         told.extend([pair[0], pair[1], tally[pair]])
     return told
+
+
+def score_of_word(lab, w):
+    """Call 19: how many trials of one word, in how many it was right, and sounds right in them."""
+    if not is_word_number(w):
+        return [OUT_OF_RANGE]
+    if w >= len(lab.words):
+        return [NO_SUCH_WORD]
+    # How many sounds were said isn't told of one word.
+    return [0] + scored(lab, [trial for trial in lab.trials if trial[0] == w])[:3]

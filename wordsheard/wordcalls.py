@@ -1,12 +1,12 @@
-"""The calls on words and their partings: 0 to 6.
+"""The calls on words and their partings: 0 to 6, 17, 18 and 20.
 
 Each function answers the call's numbers: 0 and what is told, or a refusal alone. What would refuse is
 looked for from the refusal nearest to 0 on, and ahead of every change.
 """
 
 from wordsheard.limits import LAST_SOUND, MOST_LISTS, MOST_SOUNDS, MOST_WORDS
-from wordsheard.limits import NONE_THERE, NOT_A_PARTING, NOT_DIVIDED, NO_MORE_ROOM, OUT_OF_RANGE, WORD_WAS_TRIED
-from wordsheard.limits import all_within, is_list_count
+from wordsheard.limits import NONE_THERE, NOT_A_PARTING, NOT_DIVIDED, NO_MORE_ROOM, NO_SUCH_WORD, OUT_OF_RANGE
+from wordsheard.limits import WORD_WAS_TRIED, all_within, is_list_count, is_word_number
 from wordsheard.partings import bound_of, how_uneven, is_parting, sound_counts, told_parting
 
 
@@ -100,3 +100,41 @@ def count_sounds(lab):
         if often > 0:
             told.extend([sound, often])
     return told
+
+
+def told_words(lab):
+    """Call 17: each word, behind how many sounds it has."""
+    told = [0]
+    for sounds in lab.words:
+        told.append(len(sounds))
+        told.extend(sounds)
+    return told
+
+
+def exchange_refusal(words, k, i, j, parting):
+    """The refusal that is due for an exchange of words i and j, or 0."""
+    refusal = parting_refusal(words, k, parting)
+    if refusal == OUT_OF_RANGE or not is_word_number(i) or not is_word_number(j):
+        return OUT_OF_RANGE
+    # -3 is nearer to 0 than what else a parting may be refused for.
+    if max(i, j) >= len(words):
+        return NO_SUCH_WORD
+    return refusal
+
+
+def exchange(lab, k, i, j, parting):
+    """Call 18: the parting with words i and j in one another's lists, behind how uneven it is then."""
+    refusal = exchange_refusal(lab.words, k, i, j, parting)
+    if refusal < 0:
+        return [refusal]
+    exchanged = list(parting)
+    exchanged[i] = parting[j]
+    exchanged[j] = parting[i]
+    return [0, how_uneven(lab.words, k, exchanged)] + exchanged
+
+
+def sizes(lab):
+    """Call 20: how many words, sounds of them, unlike sounds, and trials."""
+    counts = sound_counts(lab.words)
+    unlike_ones = len([often for often in counts if often > 0])
+    return [0, len(lab.words), sum(counts), unlike_ones, len(lab.trials)]
